@@ -1,0 +1,59 @@
+"""The examples at the ends of the parts 1 to 4, as far as the modules that are there can answer them."""
+
+from tests.helpers import Case
+from usualdays.books import Book
+from usualdays.booktext import read_book, read_saying
+from usualdays.cores import core, fronts
+from usualdays.errors import BadRow, BadSentence
+from usualdays.lifting import lift, lifted_layers
+from usualdays.lots import sharp_lots, silent_lots, telling_lots, widest_lot
+from usualdays.margins import margin, order_apart, relation
+from usualdays.marks import Marks
+from usualdays.orders import Order, layer_lines
+from usualdays.reader import read_sentence
+from usualdays.sayings import Saying
+from usualdays.sentences import Mark, names_in
+from usualdays.told import standing, tell
+from usualdays.verdicts import Verdicts, joined, sharper
+
+M = Marks(("a", "b"))
+
+
+class Examples(Case):
+    def test_part_1(self):
+        self.assertEqual((M.days, M.all_days, M.day("b"), M.days_with("a"), M.label(2)), (4, 15, 2, 10, "-+"))
+        s = read_sentence("a or not (b and a)")
+        self.assertEqual((s.text(), s.true_days(M), names_in(s)), ("a or not (b and a)", 15, ("a", "b")))
+        self.assertEqual((Mark("a") & ~Mark("b")).text(), "a and not b")
+        self.refuses(BadSentence("operand", 11), read_sentence, "a and (b or")
+
+    def test_part_2(self):
+        s = read_saying(M, "where a usually b")
+        self.assertEqual((s.where, s.then, s.confirm, s.broken, s.low, s.high, s.step), (10, 12, 8, 2, 8, 2, 1))
+        n = s.contrary()
+        self.assertEqual((n.usual, n.low, n.high, n.step), (False, 2, 8, 0))
+        v = joined([s, Saying(5, 4)])
+        self.assertEqual((v.confirm, v.broken, sharper(v, Verdicts(12, 3))), (12, 3, True))
+        K = read_book("marks a b\nwhere a usually b\nwhere any need not a and not b")
+        self.assertEqual((len(K), K[1].where, K[1].then, K.first_need_not), (2, 15, 2, 1))
+        self.refuses(BadRow(3, "where"), read_book, "marks a b\nwhere a usually b\n")
+
+    def test_part_3(self):
+        B = Book(Marks(["a", "b"]), [Saying(15, 5), Saying(10, 12), Saying(12, 5, usual=False)])
+        L = lift(B)
+        self.assertEqual((L.order.layers, L.reasons, L.grounds), ((0, 2, 1, 1), (None, 1, 2, 0), (0, 1, 2)))
+        S = lift(B, Saying.of_days(2, 8))
+        self.assertEqual((S.days, S.reasons, S.grounds), (14, (None, 1, 2, 3), (1, 2, 3)))
+        self.assertEqual(lifted_layers(B, start=(0, 0, 5, 0)), (0, 2, 5, 1))
+        self.assertEqual((list(layer_lines(L.order)), L.order(B), Order.flat(4)(B)),
+                         (["   0: 0", "   1: 2 3", "   2: 1"], None, 0))
+
+    def test_part_4(self):
+        B = Book(Marks(["a", "b"]), [Saying(15, 5), Saying(10, 12)])
+        self.assertEqual(tell(B, Saying(12, 5)).order.layers, (0, 2, 1, 1))
+        c = Saying(15, 13)
+        self.assertEqual(
+            (standing(B, c), sharp_lots(B, c), widest_lot(B, c), telling_lots(B, c), silent_lots(B, c)),
+            ("told", ((0,), (1,)), (0, 1), ((0,), (1,)), ((),)))
+        self.assertEqual((core(B, 15).days, core(B, 12).days, len(fronts(B, 15)), fronts(B, 15)[1].days), (5, 12, 2, 4))
+        self.assertEqual((margin(B, 5, 2).many, relation(B, 4, 8), order_apart(B, 5, 8, 0)), (2, "free", None))

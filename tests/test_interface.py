@@ -1,0 +1,114 @@
+"""The interface: what is defined where, and with which parameters."""
+
+import ast
+import importlib
+import inspect
+
+from tests.helpers import Case
+
+FUNCTIONS = {
+    "ratios": "is_whole(thing, low, high); ratio(top, bottom); compare_ratios(one, other); ratio_sum(one, other);"
+              " ratio_product(one, other)",
+    "daysets": "days_in(day_set); set_of(days); size(day_set); within(one, other)",
+    "sentences": "names_in(sentence)",
+    "reader": "read_sentence(text)",
+    "writer": "sentence_of(marks, days)",
+    "verdicts": "verdicts_of(saying); joined(sayings); sharper(one, other)",
+    "booktext": "saying_text(marks, saying); read_saying(marks, text, row=1); book_text(book); read_book(text)",
+    "orders": "layer_lines(order)",
+    "lifting": "lift(book, *further); lifted_layers(book, *further, start=None)",
+    "liftjudge": "lifted_fault(book, lifted, *further); stuck_fault(book, stuck, *further)",
+    "told": "tell(book, saying); tell_fault(book, saying, answer); standing(book, saying)",
+    "lots": "sharp_lot(book, saying); sharp_lots(book, saying); widest_lot(book, saying); telling_lots(book, saying);"
+            " silent_lots(book, saying)",
+    "cores": "core(book, where); core_fault(book, where, answer); fronts(book, where)",
+    "margins": "margin(book, one, other); margin_fault(book, one, other, answer); relation(book, one, other);"
+               " order_apart(book, one, other, many)",
+}
+
+SENTENCE = " true_days(self, marks); text(self); __eq__(self, other)"
+CLASSES = {
+    "marks.Marks": "__init__(self, names); day(self, *names); names_on(self, day); label(self, day);"
+                   " days_with(self, name); __eq__(self, other)",
+    "sentences.Sentence": "__and__(self, other); __or__(self, other); __invert__(self)",
+    "sentences.Mark": "__init__(self, name);" + SENTENCE,
+    "sentences.Not": "__init__(self, part);" + SENTENCE,
+    "sentences.Both": "__init__(self, parts);" + SENTENCE,
+    "sentences.Either": "__init__(self, parts);" + SENTENCE,
+    "sentences.Always": SENTENCE,
+    "sentences.Never": SENTENCE,
+    "sayings.Saying": "__init__(self, where, then, usual=True); contrary(self); flipped(self); on(self, day);"
+                      " __eq__(self, other); of_days(cls, confirm, broken, usual=True)",
+    "verdicts.Verdicts": "__init__(self, confirm, broken); none(cls); on(self, day); __add__(self, other);"
+                         " __eq__(self, other)",
+    "books.Book": "__init__(self, marks, sayings); first_need_not(self); with_saying(self, saying); only(self, lot);"
+                  " without(self, lot); __getitem__(self, number); __len__(self); __iter__(self);"
+                  " __add__(self, other); __eq__(self, other)",
+    "orders.Order": "__init__(self, layers); flat(days); lowered(layers); levels(self); least(self, days);"
+                    " normal(self, days); closed(self); beneath(self, other); keeps(self, saying);"
+                    " keeps_all(self, sayings); __getitem__(self, day); __len__(self); __iter__(self);"
+                    " __eq__(self, other); __and__(self, other); __call__(self, sayings)",
+    "lifting.Lifted": "__init__(self, order, reasons, heights); grounds(self)",
+    "lifting.Stuck": "__init__(self, days, reasons, heights); grounds(self)",
+    "told.Told": "__init__(self, stuck)",
+    "told.NotTold": "__init__(self, order)",
+    "cores.Core": "__init__(self, days, orders, stuck)",
+    "cores.Front": "__init__(self, days, order)",
+    "margins.Margin": "__init__(self, many, order, offsets, reasons, heights)",
+    "margins.Loose": "__init__(self, order, raised)",
+}
+DECORATED = {"of_days": "classmethod", "none": "classmethod", "flat": "staticmethod", "lowered": "staticmethod",
+             "first_need_not": "property", "levels": "property", "grounds": "property"}
+
+
+def tree_of(module):
+    return ast.parse(inspect.getsource(importlib.import_module("usualdays." + module)))
+
+
+def shown(node):
+    return f"{node.name}({ast.unparse(node.args)})"
+
+
+class Interface(Case):
+    def test_functions_are_defined_in_their_files(self):
+        for module, wanted in FUNCTIONS.items():
+            defined = [shown(node) for node in tree_of(module).body if isinstance(node, ast.FunctionDef)]
+            for entry in wanted.split("; "):
+                self.assertIn(entry.strip(), defined, module)
+
+    def test_classes_and_methods_are_defined_in_their_files(self):
+        for place, wanted in CLASSES.items():
+            module, name = place.split(".")
+            [node] = [n for n in tree_of(module).body if isinstance(n, ast.ClassDef) and n.name == name]
+            methods = {shown(n): n for n in node.body if isinstance(n, ast.FunctionDef)}
+            for entry in wanted.split("; "):
+                entry = entry.strip()
+                self.assertIn(entry, methods, place)
+                decorators = [ast.unparse(d) for d in methods[entry].decorator_list]
+                plain = entry.split("(")[0]
+                self.assertEqual(decorators, [DECORATED[plain]] if plain in DECORATED else [], (place, entry))
+
+    def test_sentences_stand_under_their_base(self):
+        module = importlib.import_module("usualdays.sentences")
+        for name in ("Mark", "Not", "Both", "Either", "Always", "Never"):
+            self.assertEqual(getattr(module, name).__bases__, (module.Sentence,))
+
+    def test_0_5_objects_have_no_order(self):
+        for place in CLASSES:
+            module, name = place.split(".")
+            kind = getattr(importlib.import_module("usualdays." + module), name)
+            for operator in ("__lt__", "__le__", "__gt__", "__ge__"):
+                self.assertNotIn(operator, vars(kind))
+
+    def test_attributes_are_set_when_an_object_is_created(self):
+        from usualdays.books import Book
+        from usualdays.marks import Marks
+        from usualdays.orders import Order
+        from usualdays.sayings import Saying
+        from usualdays.verdicts import Verdicts
+        marks = Marks(["a"])
+        for made, names in ((marks, "names count days all_days"), (Verdicts(1, 2), "confirm broken"),
+                            (Saying(3, 1), "where then usual confirm broken low high step"),
+                            (Book(marks, []), "marks sayings"), (Order([0, 1]), "layers")):
+            for name in names.split():
+                self.assertIn(name, vars(made))

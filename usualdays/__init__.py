@@ -1,0 +1,1 @@
+"""Sayings of what is usual, judged for all orders of days."""
