@@ -110,7 +110,8 @@ class BookTexts(Case):
 
     def test_2_10_marks(self):
         for first in ("", "marks", "marks ", "marksa", "marks  a", "marks a  b", "marks a ", " marks a", "marks a b c d e",
-                      "marks a a", "marks and", "marks A", "marks abcdefghi", "mark a", "where a usually a", "marks a\tb"):
+                      "marks a a", "marks and", "marks A", "marks abcdefghi", "mark a", "where a usually a", "marks a\tb",
+                      "Marks a b", "where a b", "marks.a b", "mark  a"):
             self.refuses(BadRow(1, "marks"), read_book, first)
             self.refuses(BadRow(1, "marks"), read_book, first + "\nx" * 14)
 

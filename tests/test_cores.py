@@ -147,6 +147,10 @@ class Fronts(Case):
         book = Book(TWO, [Saying.of_days(1, 4, False), Saying.of_days(4, 1, False)])
         self.assertEqual([front.days for front in fronts(book, 15)], [2, 8, 5])
         self.against_all_orders(book, 15)
+        pairs = [Saying.of_days(1, 8, False), Saying.of_days(8, 1, False), Saying.of_days(2, 4, False),
+                 Saying.of_days(4, 2, False)]
+        self.assertEqual([front.days for front in fronts(Book(TWO, pairs), 15)], [6, 9])
+        self.against_all_orders(Book(TWO, pairs), 15)
 
     def test_4_8_no_order(self):
         self.assertEqual(fronts(BROKEN, 3), ())

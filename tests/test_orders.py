@@ -97,10 +97,12 @@ class Asking(Case):
         self.assertEqual(Order.flat(16).levels, (65535,))
         self.assertEqual(Order(list(range(16))).levels, tuple(2 ** day for day in range(16)))
         self.assertEqual(Order([0, HIGHEST]).levels, (1, 2))
+        self.assertEqual(Order([HIGHEST, 33, 0, 10 ** 20, 17, 9, 33, 64]).levels, (4, 32, 16, 66, 128, 8, 1))
 
     def test_3_2_closed(self):
         self.assertEqual(Order([30, 1, 30, 0]).closed().layers, (2, 1, 2, 0))
         self.assertEqual(Order([0, HIGHEST]).closed().layers, (0, 1))
+        self.assertEqual(Order([HIGHEST, 33, 0, 10 ** 20, 17, 9, 33, 64]).closed().layers, (6, 3, 0, 5, 2, 1, 3, 4))
         for layers in ORDERS[4]:
             self.assertEqual(Order(layers).closed(), Order(layers))
             self.assertEqual(Order([layer * layer * 5 for layer in layers]).closed(), Order(layers))

@@ -28,7 +28,7 @@ class Reading(Case):
                 ("not (a or b)", Not(Either((A, B)))), ("(a and b) and c", Both((Both((A, B)), C))),
                 ("a and (b and c)", Both((A, Both((B, C))))), ("(a or b) or c", Either((Either((A, B)), C))),
                 ("a and not not b or never", Either((Both((A, Not(Not(B)))), Never()))),
-                ("abcdefgh", Mark("abcdefgh"))):
+                ("abcdefgh", Mark("abcdefgh")), ("az or z", Either((Mark("az"), Mark("z"))))):
             self.assertEqual(read_sentence(text), wanted, text)
 
     def test_1_8_parentheses_alone_say_nothing(self):

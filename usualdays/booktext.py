@@ -1,7 +1,6 @@
 """Sayings and books as texts."""
 
 from usualdays.books import MOST_SAYINGS, Book
-from usualdays.checks import check_days
 from usualdays.errors import BadMarks, BadRow, BadSentence, NoMark
 from usualdays.marks import Marks
 from usualdays.reader import read_sentence
@@ -15,8 +14,7 @@ MARKS = "marks "
 
 
 def saying_text(marks, saying):
-    """Return a text that read_saying reads back as an equal saying."""
-    check_days(marks, [saying])
+    """Return a text that read_saying reads back as an equal saying; sentence_of refuses days that do not fit."""
     kind = USUALLY if saying.usual else NEED_NOT
     condition = sentence_of(marks, saying.where).text()
     conclusion = sentence_of(marks, saying.then).text()

@@ -5,7 +5,6 @@ from usualdays.daysets import days_in, set_of, size, within
 from usualdays.liftjudge import stuck_fault
 from usualdays.lifting import Lifted, lift
 from usualdays.lots import all_lots
-from usualdays.ratios import is_whole
 from usualdays.sayings import Saying
 
 MOST_DAYS_FOR_FRONTS = 6
@@ -50,7 +49,7 @@ def core(book, where):
 def core_fault(book, where, answer):
     """Return None if a Core is right, otherwise a word."""
     check_where(book.marks, where)
-    if not is_whole(answer.days, 0, where) or not within(answer.days, where):
+    if not within(answer.days, where):
         return "days"
     days = days_in(answer.days)
     if len(answer.orders) != len(days):

@@ -77,9 +77,8 @@ def highs_fit(sayings, reasons):
 
 
 def reaches(order, day, saying):
-    """Tell whether a saying of which the order has a low day lifts a day as high as it lies."""
-    bottom = order.least(saying.low)
-    return bottom is None or bottom + saying.step >= order.layers[day]
+    """Tell whether a saying that the order keeps lifts a day of its high as high as it lies."""
+    return order.least(saying.low) + saying.step >= order.layers[day]
 
 
 def heights_fall(sayings, reasons, heights, places):

@@ -29,7 +29,7 @@ class Order:
     @staticmethod
     def flat(days):
         """Return the order of so many days in which all have layer 0."""
-        if not is_whole(days, 2, 16) or days not in DAY_COUNTS:
+        if not is_whole(days, 0, max(DAY_COUNTS)):
             raise BadOrder("count")
         return Order([0] * days)
 
