@@ -3,6 +3,7 @@
 import itertools
 import random
 import unittest
+from fractions import Fraction
 
 from usualdays.books import Book
 from usualdays.marks import Marks
@@ -75,6 +76,31 @@ def plain_tells(book, saying):
     return all(plain_keeps(layers, saying) for layers in keeping(book))
 
 
+def plain_lots(many):
+    return [lot for length in range(many + 1) for lot in itertools.combinations(range(many), length)]
+
+
+def plain_joined(book, lot, day):
+    """The word of a lot for a day, by the words of point 2.5."""
+    words = [book[number].on(day) for number in lot]
+    return "broken" if "broken" in words else "confirmed" if "confirmed" in words else "silent"
+
+
+def is_sharp(book, lot, saying):
+    """Sharpness, day by day, by the words of the points 2.5, 2.6 and 4.4."""
+    for day in range(book.marks.days):
+        word = plain_joined(book, lot, day)
+        if word == "confirmed" and saying.on(day) != "confirmed":
+            return False
+        if saying.on(day) == "broken" and word != "broken":
+            return False
+    return True
+
+
+def plain_yields(book, saying):
+    return any(is_sharp(book, lot, saying) for lot in plain_lots(len(book)))
+
+
 def lowest(layers, day_set):
     return min(layers[day] for day in bits(day_set))
 
@@ -109,6 +135,32 @@ def all_sayings(marks, usual=None):
             if then & ~where == 0:
                 found += [Saying(where, then, kind) for kind in (True, False) if usual in (None, kind)]
     return found
+
+
+def mixed_books(chance, many, most=6):
+    """Books of "usually" sayings with one more each, of which many are yielded."""
+    for _ in range(many):
+        marks = chance.choice((ONE, TWO, TWO, THREE, FOUR))
+        book = some_book(chance, marks, most, usual=True)
+        saying = some_saying(chance, marks, usual=True)
+        chosen = [own for own in book if chance.random() < 0.6]
+        if chosen and chance.random() < 0.6:
+            where = broken = 0
+            for own in chosen:
+                where |= own.where
+                broken |= own.broken
+            saying = Saying(where, where & ~broken | chance.randint(0, marks.all_days))
+        yield book, saying
+
+
+def plain_doubt(numbers, saying):
+    """The doubt of a saying, by the words of point 5.3."""
+    where = sum(numbers[day] for day in bits(saying.where))
+    return Fraction(sum(numbers[day] for day in bits(saying.broken)), where) if where else Fraction(0)
+
+
+def as_ratio(number):
+    return (Fraction(number).numerator, Fraction(number).denominator)
 
 
 def seeded(number):

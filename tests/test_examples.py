@@ -1,10 +1,13 @@
-"""The examples at the ends of the parts 1 to 4, as far as the modules that are there can answer them."""
+"""The examples at the ends of the parts 1 to 6, as far as the modules that are there can answer them."""
 
 from tests.helpers import Case
 from usualdays.books import Book
 from usualdays.booktext import read_book, read_saying
 from usualdays.cores import core, fronts
+from usualdays.derivations import Step, derivation_fault
 from usualdays.errors import BadRow, BadSentence
+from usualdays.expecting import expects, least_order
+from usualdays.greatest import greatest_doubt, lot_of
 from usualdays.lifting import lift, lifted_layers
 from usualdays.lots import sharp_lots, silent_lots, telling_lots, widest_lot
 from usualdays.margins import margin, order_apart, relation
@@ -57,3 +60,17 @@ class Examples(Case):
             ("told", ((0,), (1,)), (0, 1), ((0,), (1,)), ((),)))
         self.assertEqual((core(B, 15).days, core(B, 12).days, len(fronts(B, 15)), fronts(B, 15)[1].days), (5, 12, 2, 4))
         self.assertEqual((margin(B, 5, 2).many, relation(B, 4, 8), order_apart(B, 5, 8, 0)), (2, "free", None))
+        steps = [Step("given", (1,), Saying(10, 8)), Step("weaker", (1,), Saying(10, 8))]
+        self.assertEqual(derivation_fault(B, steps), (1, "lines"))
+
+    def test_part_5(self):
+        B = Book(Marks(["a", "b"]), [Saying(15, 10), Saying(10, 12)])
+        found = greatest_doubt(B, [(1, 10), (1, 5)], Saying(15, 12))
+        self.assertEqual((found.doubt, found.weights.lowest().numbers, found.multipliers, lot_of(found)),
+                         ((7, 25), (5, 9, 0, 36), ((2, 25), (1, 5)), (0, 1)))
+
+    def test_part_6(self):
+        K = Book(Marks(("a", "b")), [Saying(15, 10), Saying(15, 12)])
+        self.assertEqual(least_order(K).layers, (1, 1, 1, 0))
+        s = Saying(5, 4)
+        self.assertEqual((expects(K, s), expects(K, s.contrary())), (False, True))

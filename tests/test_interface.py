@@ -24,6 +24,17 @@ FUNCTIONS = {
     "cores": "core(book, where); core_fault(book, where, answer); fronts(book, where)",
     "margins": "margin(book, one, other); margin_fault(book, one, other, answer); relation(book, one, other);"
                " order_apart(book, one, other, many)",
+    "derivations": "derivation(book, saying); derivation_fault(book, steps); resting(steps)",
+    "doubts": "doubt_of(weights, saying); doubts_of(weights, book); doubt_sum(weights, book);"
+              " check_bounds(book, bounds); first_excess(weights, book, bounds)",
+    "steps": "big_steps(layers, step); order_by_weights(weights)",
+    "linear": "solve(task); solve_fault(task, answer)",
+    "greatest": "doubt_task(book, bounds, saying); greatest_doubt(book, bounds, saying);"
+                " doubt_range(book, bounds, saying); greatest_fault(book, bounds, saying, answer); lot_of(answer)",
+    "shares": "share_task(book, bounds, saying, least); greatest_share(book, bounds, saying, least);"
+              " share_fault(book, bounds, saying, least, answer)",
+    "sums": "sum_bound(book, saying, *, parts=2); sum_fault(book, saying, answer)",
+    "expecting": "least_order(book, *further); expects(book, saying, *further)",
 }
 
 SENTENCE = " true_days(self, marks); text(self); __eq__(self, other)"
@@ -56,9 +67,23 @@ CLASSES = {
     "cores.Front": "__init__(self, days, order)",
     "margins.Margin": "__init__(self, many, order, offsets, reasons, heights)",
     "margins.Loose": "__init__(self, order, raised)",
+    "derivations.Step": "__init__(self, rule, lines, saying)",
+    "weights.Weights": "__init__(self, numbers); even(cls, days); of(self, day_set); given(self, day_set); lowest(self);"
+                       " total(self); is_full(self); __getitem__(self, day); __len__(self); __iter__(self);"
+                       " __add__(self, other); __mul__(self, other); __eq__(self, other)",
+    "linear.Task": "__init__(self, goal, unit, rows); __eq__(self, other)",
+    "linear.Top": "__init__(self, value, point, multipliers)",
+    "linear.Barred": "__init__(self, multipliers)",
+    "greatest.GreatestDoubt": "__init__(self, doubt, weights, multipliers)",
+    "greatest.Weightless": "__init__(self, multipliers)",
+    "shares.GreatestShare": "__init__(self, share, weights, multipliers)",
+    "shares.NoWeights": "__init__(self, multipliers)",
+    "sums.Bounded": "__init__(self, lot)",
+    "sums.Exceeds": "__init__(self, weights)",
 }
 DECORATED = {"of_days": "classmethod", "none": "classmethod", "flat": "staticmethod", "lowered": "staticmethod",
-             "first_need_not": "property", "levels": "property", "grounds": "property"}
+             "first_need_not": "property", "levels": "property", "grounds": "property", "even": "classmethod",
+             "total": "property", "is_full": "property"}
 
 
 def tree_of(module):

@@ -14,7 +14,7 @@ isinstance ord repr any all divmod iter ValueError NotImplemented""".split())
 METHODS = set("""append clear copy count endswith extend find get index insert isalnum isalpha isdigit islower isspace
 isupper items join keys ljust lower lstrip partition pop remove replace reverse rfind rjust rpartition rsplit rstrip
 setdefault split splitlines startswith strip update upper values zfill bit_length""".split())
-DUNDERS = set("""__init__ __eq__ __len__ __iter__ __call__ __getitem__ __add__ __and__ __or__ __invert__""".split())
+DUNDERS = set("""__init__ __eq__ __len__ __iter__ __call__ __getitem__ __add__ __mul__ __and__ __or__ __invert__""".split())
 DECORATORS = {"property", "classmethod", "staticmethod"}
 NODES = """Module Expr Constant ImportFrom alias FunctionDef ClassDef arguments arg Assign AugAssign If While For Return
 Break Continue Pass Raise Try ExceptHandler Call Attribute Subscript Slice Name Load Store Tuple List Dict ListComp
@@ -81,7 +81,7 @@ class Language(Case):
                         self.assertIsNone(alias.asname)
                         self.assertIn(alias.name, used, name)
                     if node.module == "math":
-                        self.assertEqual([alias.name for alias in node.names], ["gcd"])
+                        self.assertLessEqual({alias.name for alias in node.names}, {"gcd", "lcm"})
                         continue
                     package, module = node.module.split(".")
                     self.assertEqual(package, "usualdays")

@@ -2,8 +2,8 @@
 
 import itertools
 
-from tests.helpers import (FOUR, ONE, THREE, TWO, Case, all_sayings, plain_tells, seeded, some_book, some_kept_book,
-                           some_saying)
+from tests.helpers import (FOUR, ONE, THREE, TWO, Case, all_sayings, is_sharp, plain_lots, plain_tells, seeded,
+                           some_book, some_kept_book, some_saying)
 from usualdays.books import Book
 from usualdays.errors import NeedNot, OtherDays, TooMany
 from usualdays.lots import sharp_lot, sharp_lots, silent_lots, telling_lots, widest_lot
@@ -14,22 +14,6 @@ B = Book(TWO, [Saying(15, 5), Saying(10, 12)])
 SHARP = (sharp_lot, sharp_lots, widest_lot)
 TELLING = (telling_lots, silent_lots)
 FOREIGN = (Saying(16, 1), Saying(1, 16), Saying(65535, 3, False))
-
-
-def plain_lots(many):
-    return [lot for length in range(many + 1) for lot in itertools.combinations(range(many), length)]
-
-
-def is_sharp(book, lot, saying):
-    """Sharpness, day by day, by the words of the points 2.5, 2.6 and 4.4."""
-    for day in range(book.marks.days):
-        words = [book[number].on(day) for number in lot]
-        word = "broken" if "broken" in words else "confirmed" if "confirmed" in words else "silent"
-        if word == "confirmed" and saying.on(day) != "confirmed":
-            return False
-        if saying.on(day) == "broken" and word != "broken":
-            return False
-    return True
 
 
 class Sharp(Case):

@@ -1,21 +1,31 @@
 """What many functions of a book check before they begin."""
 
-from usualdays.books import has_days
 from usualdays.errors import BadDays, NeedNot, OtherDays, TooMany
 from usualdays.ratios import is_whole
 
 
-def check_days(marks, sayings):
-    """Raise OtherDays if a saying has a day that is not a day of the marks."""
+def check_fitting(days, sayings):
+    """Raise OtherDays if a saying has a day that is not one of so many days."""
     for saying in sayings:
-        if not has_days(marks, saying):
+        if (saying.where | saying.then) >> days:
             raise OtherDays()
 
 
-def check_all_usual(book, saying):
-    """Raise NeedNot for a "need not" saying of the book or beside it."""
+def check_days(marks, sayings):
+    """Raise OtherDays if a saying has a day that is not a day of the marks."""
+    check_fitting(marks.days, sayings)
+
+
+def check_usual(book):
+    """Raise NeedNot with the number of the first "need not" saying of a book."""
     if book.first_need_not is not None:
         raise NeedNot(book.first_need_not)
+
+
+def check_all_usual(book, saying):
+    """Raise the errors of a function that takes "usually" alone, in the book and beside it."""
+    check_days(book.marks, [saying])
+    check_usual(book)
     if not saying.usual:
         raise NeedNot(None)
 

@@ -35,12 +35,6 @@ def least_lots(lots):
     return tuple(least)
 
 
-def check_sharp(book, saying):
-    """Raise the errors of the functions that ask for sharp lots."""
-    check_days(book.marks, [saying])
-    check_all_usual(book, saying)
-
-
 def all_sharp_lots(book, saying):
     """Return all sharp lots, in the order of all_lots."""
     aim = verdicts_of(saying)
@@ -57,32 +51,40 @@ def all_sharp_lots(book, saying):
 
 def sharp_lot(book, saying):
     """Return the first sharp lot for a saying, or None."""
-    check_sharp(book, saying)
+    check_all_usual(book, saying)
     sharp = all_sharp_lots(book, saying)
     return sharp[0] if sharp else None
 
 
 def sharp_lots(book, saying):
     """Return all least sharp lots for a saying."""
-    check_sharp(book, saying)
+    check_all_usual(book, saying)
     return least_lots(all_sharp_lots(book, saying))
 
 
-def widest_lot(book, saying):
-    """Return the sharp lot that holds every sharp lot, or None.
+def narrowed(book, aim):
+    """Return the lot of all sayings that may be in a sharp lot, and the wrong days, round by round.
 
-    A saying that confirms a day that should not be confirmed is in no sharp lot, once no saying that
-    is left breaks this day. So such sayings are dropped until there is none.
+    A saying that confirms a wrong day, one that should not be confirmed, is in no sharp lot, once no
+    saying that is left breaks this day. So such sayings are dropped until there is none.
     """
-    check_sharp(book, saying)
-    aim = verdicts_of(saying)
-    lot = list(range(len(book)))
+    lot = tuple(range(len(book)))
+    rounds = []
     verdicts = joined(book)
     while not within(verdicts.confirm, aim.confirm):
         wrong = verdicts.confirm & ~aim.confirm
-        lot = [number for number in lot if book[number].confirm & wrong == 0]
-        verdicts = joined([book[number] for number in lot])
-    return tuple(lot) if sharper(verdicts, aim) else None
+        rounds.append(wrong)
+        lot = tuple([number for number in lot if book[number].confirm & wrong == 0])
+        verdicts = joined(book.only(lot))
+    return lot, rounds
+
+
+def widest_lot(book, saying):
+    """Return the sharp lot that holds every sharp lot, or None."""
+    check_all_usual(book, saying)
+    aim = verdicts_of(saying)
+    lot, _ = narrowed(book, aim)
+    return lot if sharper(joined(book.only(lot)), aim) else None
 
 
 def telling_lots(book, saying):

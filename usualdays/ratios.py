@@ -5,9 +5,14 @@ from math import gcd
 from usualdays.errors import BadRatio
 
 
+def is_number(thing):
+    """Tell whether a thing is a whole number, no bool, of any size."""
+    return isinstance(thing, int) and not isinstance(thing, bool)
+
+
 def is_whole(thing, low, high):
     """Tell whether a thing is a whole number, no bool, from low to high."""
-    return isinstance(thing, int) and not isinstance(thing, bool) and low <= thing <= high
+    return is_number(thing) and low <= thing <= high
 
 
 def ratio(top, bottom):
