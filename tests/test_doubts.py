@@ -15,7 +15,8 @@ NEED_NOT = Book(TWO, [Saying(3, 1), Saying(3, 1, False), Saying(5, 1, False)])
 EVEN = Weights([1] * 4)
 # All things that are no bound.
 NO_BOUNDS = STRANGE + ((), (1,), (1, 2, 3), (2, 1), (-1, 2), (0, 0), (1, 0), (0, -1), (1, -2), (True, 2), (1, True),
-                       (1, None), ("1", 2), (1, 2.0), (1, 1000001), (0, 1000001), "12", {0: 1, 1: 2}, (1000001, 1000001))
+                       (1, None), ("1", 2), (1, 2.0), (1, 1000001), (0, 1000001), "12", {0: 1, 1: 2},
+                       (1000001, 1000001))
 
 
 def some_weights(chance, days, least=0):
@@ -89,7 +90,8 @@ class Bounds(Case):
         weights = Weights([1, 2, 0, 3])
         for bounds, number in (([(1, 6), (2, 5)], None), ([(4, 24), (40, 100)], None), ([(1, 7), (2, 5)], 0),
                                ([(1, 6), (39, 100)], 1), ([(0, 1), (0, 1)], 0), ([(1, 1), (1, 1)], None),
-                               ([(1, 7), (1, 7)], 0), ([(166666, 1000000), (1, 1)], 0), ([(166667, 1000000), (1, 1)], None)):
+                               ([(1, 7), (1, 7)], 0), ([(166666, 1000000), (1, 1)], 0),
+                               ([(166667, 1000000), (1, 1)], None)):
             self.assertEqual(first_excess(weights, B, bounds), number)
         self.assertIsNone(first_excess(weights, Book(TWO, []), ()))
         self.assertIsNone(first_excess(Weights([0, 0, 1, 0]), Book(TWO, [Saying(3, 0)]), [(0, 5)]))

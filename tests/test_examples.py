@@ -1,25 +1,33 @@
-"""The examples at the ends of the parts 1 to 6, as far as the modules that are there can answer them."""
+"""The examples at the ends of the parts 1 to 7."""
 
 from tests.helpers import Case
 from usualdays.books import Book
 from usualdays.booktext import read_book, read_saying
+from usualdays.choices import choice_sayings
 from usualdays.cores import core, fronts
+from usualdays.counting import counting_order, counts_of, grades_of
 from usualdays.derivations import Step, derivation_fault
 from usualdays.errors import BadRow, BadSentence
 from usualdays.expecting import expects, least_order
 from usualdays.greatest import greatest_doubt, lot_of
+from usualdays.history import History
+from usualdays.learning import learn
 from usualdays.lifting import lift, lifted_layers
 from usualdays.lots import sharp_lots, silent_lots, telling_lots, widest_lot
 from usualdays.margins import margin, order_apart, relation
 from usualdays.marks import Marks
+from usualdays.news import stack
 from usualdays.orders import Order, layer_lines
 from usualdays.reader import read_sentence
 from usualdays.sayings import Saying
 from usualdays.sentences import Mark, names_in
+from usualdays.tables import Table, settle
 from usualdays.told import standing, tell
 from usualdays.verdicts import Verdicts, joined, sharper
+from usualdays.weighing import weigh, weigh_fault
 
 M = Marks(("a", "b"))
+K = Book(M, [Saying(15, 10), Saying(15, 12)])
 
 
 class Examples(Case):
@@ -70,7 +78,24 @@ class Examples(Case):
                          ((7, 25), (5, 9, 0, 36), ((2, 25), (1, 5)), (0, 1)))
 
     def test_part_6(self):
-        K = Book(Marks(("a", "b")), [Saying(15, 10), Saying(15, 12)])
-        self.assertEqual(least_order(K).layers, (1, 1, 1, 0))
+        self.assertEqual((least_order(K).layers, grades_of(K), counts_of(K, 0), counting_order(K).layers),
+                         ((1, 1, 1, 0), (0, 0), (2,), (2, 1, 1, 0)))
         s = Saying(5, 4)
-        self.assertEqual((expects(K, s), expects(K, s.contrary())), (False, True))
+        self.assertEqual((expects(K, s), expects(K, s.contrary()), counting_order(K).keeps(s)), (False, True, True))
+        t = Table.of_order(least_order(K))
+        self.assertEqual(t.normals, (0, 1, 2, 3, 4, 5, 6, 7, 8, 8, 8, 8, 8, 8, 8, 8))
+        c = settle(Table((0, 1, 2, 1, 4, 5, 6, 7, 8, 8, 8, 8, 8, 8, 8, 8)))
+        self.assertEqual((c.many, c.few), (7, 3))
+        self.assertEqual([(x.low, x.high, x.step) for x in choice_sayings([(7, 3)])], [(3, 4, 1), (1, 6, 0), (2, 5, 0)])
+
+    def test_part_7(self):
+        H = History(Order.flat(4))
+        self.assertEqual((H.put(K[0], 2), H.put(K[1], 1), H.now.layers), (0, 1, (3, 1, 2, 0)))
+        H.take_back(0)
+        self.assertEqual((H.now.layers, H.as_of(1).layers, H.without(1).layers, H.lying, H.deeds),
+                         ((1, 1, 0, 0), (2, 0, 2, 0), (0, 0, 0, 0), (1,), 3))
+        self.assertEqual(weigh(K, (0, 0), Saying(5, 4)).matches, (2, None, None, None))
+        self.assertEqual(weigh(K, (1, 0), Saying(6, 2)).matches, (None, None, 1, None))
+        self.assertIsNone(weigh_fault(K, (0, 0), Saying(6, 2), weigh(K, (0, 0), Saying(6, 2))))
+        self.assertEqual(learn(K).forces, (1, 1))
+        self.assertEqual([(p.saying.then, p.force) for p in stack(Order((3, 1, 3, 0)))], [(8, 1), (10, 2)])

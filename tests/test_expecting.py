@@ -1,6 +1,7 @@
 """What the least order expects: points 6.1 and 6.2."""
 
-from tests.helpers import (FOUR, ONE, THREE, TWO, Case, all_sayings, keeping, plain_keeps, plain_tells, seeded, some_book,
+from tests.helpers import (FOUR, ONE, THREE, TWO, Case, all_sayings, keeping, plain_keeps, plain_tells, seeded,
+                           some_book,
                            some_kept_book, some_saying)
 from usualdays.books import Book
 from usualdays.errors import NoOrder, OtherDays

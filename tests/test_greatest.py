@@ -28,7 +28,8 @@ def some_bounds(chance, book, least=0):
     bounds = []
     for _ in book:
         bottom = chance.choice((1, 2, 3, 4, 10, 100, 999999, 1000000))
-        bounds.append((max(least, chance.choice((0, 1, bottom // 4, bottom // 2, bottom, chance.randint(0, bottom)))), bottom))
+        bounds.append((max(least, chance.choice((0, 1, bottom // 4, bottom // 2, bottom, chance.randint(0, bottom)))),
+                       bottom))
     return [(min(top, bottom), bottom) for top, bottom in bounds]
 
 
@@ -68,7 +69,8 @@ def plain_word(book, bounds, saying, answer):
     doubt = Fraction(*answer.doubt)
     if plain_doubt(numbers, saying) != doubt:
         return "doubt"
-    fits = [plain_bar(book, bounds, saying, doubt, y, day, int(day in bits(saying.broken)), int(day in bits(saying.where)))
+    fits = [plain_bar(book, bounds, saying, doubt, y, day, int(day in bits(saying.broken)),
+                      int(day in bits(saying.where)))
             for day in days]
     return None if all(fits) else "bar"
 
@@ -237,14 +239,17 @@ class Judging(Case):
             self.judged("bounds", (0, 1), numbers, good)
         for doubt in ((0, 1), (1, 1), (8, 25), (-7, 25), (27999, 100000)):
             self.judged("doubt", doubt, [5, 9, 0, 36], ((0, 1), (0, 1)))
-        for multipliers in (((0, 1), (0, 1)), ((2, 25), (1, 6)), ((1, 25), (1, 5)), ((3, 25), (1, 5)), ((2, 25), (1, 4))):
+        for multipliers in (((0, 1), (0, 1)), ((2, 25), (1, 6)), ((1, 25), (1, 5)), ((3, 25), (1, 5)),
+                            ((2, 25), (1, 4))):
             self.judged("bar", (7, 25), [5, 9, 0, 36], multipliers)
         self.judged("bar", (0, 1), [0, 0, 0, 1], good)
 
     def test_5_11_weightless(self):
         book = Book(TWO, [Saying(12, 0), Saying(3, 3)])
-        for multipliers, word in ((((1, 1), (0, 1)), None), (((2, 1), (0, 1)), None), (((1, 1), (1, 9)), None), ((), "count"),
-                                  (((-1, 1),), "count"), (((1, 1), (0, 1), (0, 1)), "count"), (((1, 2), (-1, 9)), "sign"),
+        for multipliers, word in ((((1, 1), (0, 1)), None), (((2, 1), (0, 1)), None), (((1, 1), (1, 9)), None),
+                                  ((), "count"),
+                                  (((-1, 1),), "count"), (((1, 1), (0, 1), (0, 1)), "count"),
+                                  (((1, 2), (-1, 9)), "sign"),
                                   (((0, 1), (0, 1)), "bar"), (((99, 100), (0, 1)), "bar")):
             answer = Weightless(multipliers)
             self.assertEqual(greatest_fault(book, [(1, 2), (0, 1)], Saying(4, 4), answer), word)

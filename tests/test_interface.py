@@ -35,6 +35,14 @@ FUNCTIONS = {
               " share_fault(book, bounds, saying, least, answer)",
     "sums": "sum_bound(book, saying, *, parts=2); sum_fault(book, saying, answer)",
     "expecting": "least_order(book, *further); expects(book, saying, *further)",
+    "tables": "settle(table); settle_fault(table, answer)",
+    "choices": "choice_sayings(choices); lift_choices(marks, choices)",
+    "counting": "grades_of(book); counts_of(book, day); counting_order(book)",
+    "news": "order_of_news(start, pieces); firmness(order, saying); stack(order); single_piece(one, other)",
+    "forces": "is_steep(grades, forces); forced_order(book, forces)",
+    "weighing": "weigh(book, grades, saying); weigh_fault(book, grades, saying, answer)",
+    "learning": "learn(book)",
+    "compare": "compare_books(one, two); compare_fault(one, two, compared)",
 }
 
 SENTENCE = " true_days(self, marks); text(self); __eq__(self, other)"
@@ -68,8 +76,8 @@ CLASSES = {
     "margins.Margin": "__init__(self, many, order, offsets, reasons, heights)",
     "margins.Loose": "__init__(self, order, raised)",
     "derivations.Step": "__init__(self, rule, lines, saying)",
-    "weights.Weights": "__init__(self, numbers); even(cls, days); of(self, day_set); given(self, day_set); lowest(self);"
-                       " total(self); is_full(self); __getitem__(self, day); __len__(self); __iter__(self);"
+    "weights.Weights": "__init__(self, numbers); even(cls, days); of(self, day_set); given(self, day_set);"
+                       " lowest(self); total(self); is_full(self); __getitem__(self, day); __len__(self); __iter__(self);"
                        " __add__(self, other); __mul__(self, other); __eq__(self, other)",
     "linear.Task": "__init__(self, goal, unit, rows); __eq__(self, other)",
     "linear.Top": "__init__(self, value, point, multipliers)",
@@ -80,10 +88,22 @@ CLASSES = {
     "shares.NoWeights": "__init__(self, multipliers)",
     "sums.Bounded": "__init__(self, lot)",
     "sums.Exceeds": "__init__(self, weights)",
+    "tables.Table": "__init__(self, normals); of_order(order); __eq__(self, other)",
+    "tables.Settled": "__init__(self, order)",
+    "tables.Choosy": "__init__(self, many, few)",
+    "news.Piece": "__init__(self, saying, force); __eq__(self, other)",
+    "history.History": "__init__(self, start); put(self, saying, force); take_back(self, number);"
+                       " restore(self, number); as_of(self, number); piece(self, number); without(self, *numbers);"
+                       " now(self); lying(self); deeds(self)",
+    "weighing.ForAllForces": "__init__(self, matches)",
+    "weighing.NotForAll": "__init__(self, forces)",
+    "learning.Learned": "__init__(self, forces)",
+    "compare.Compared": "__init__(self, first, second); verdict(self)",
 }
 DECORATED = {"of_days": "classmethod", "none": "classmethod", "flat": "staticmethod", "lowered": "staticmethod",
              "first_need_not": "property", "levels": "property", "grounds": "property", "even": "classmethod",
-             "total": "property", "is_full": "property"}
+             "total": "property", "is_full": "property", "of_order": "staticmethod", "now": "property",
+             "lying": "property", "deeds": "property", "verdict": "property"}
 
 
 def tree_of(module):
@@ -127,13 +147,19 @@ class Interface(Case):
 
     def test_attributes_are_set_when_an_object_is_created(self):
         from usualdays.books import Book
+        from usualdays.linear import Task
         from usualdays.marks import Marks
+        from usualdays.news import Piece
         from usualdays.orders import Order
         from usualdays.sayings import Saying
+        from usualdays.tables import Table
         from usualdays.verdicts import Verdicts
+        from usualdays.weights import Weights
         marks = Marks(["a"])
         for made, names in ((marks, "names count days all_days"), (Verdicts(1, 2), "confirm broken"),
                             (Saying(3, 1), "where then usual confirm broken low high step"),
-                            (Book(marks, []), "marks sayings"), (Order([0, 1]), "layers")):
+                            (Book(marks, []), "marks sayings"), (Order([0, 1]), "layers"),
+                            (Weights([0, 1]), "numbers"), (Task([1], [1], []), "goal unit rows"),
+                            (Table([0, 1, 2, 3]), "normals days"), (Piece(Saying(3, 1), 1), "saying force")):
             for name in names.split():
                 self.assertIn(name, vars(made))

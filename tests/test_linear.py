@@ -18,9 +18,10 @@ RINGS = (
      (-21, 25)),
     ([4, -4, -5, -2, -5, -4, -1], [3, 1, 8, 1, 7, 1, 1],
      [[5, 4, 5, 1, 3, 1, 4], [5, -4, 0, 5, -1, -2, -1], [-5, -3, -5, -2, -1, -2, 2]], None),
-    ([3, 0, -3, -4, -5], [1, 3, 2, 2, 9], [[-2, -5, 0, -1, -5], [3, 0, 4, -5, 0], [-3, -3, -1, -2, -2], [-2, 4, -2, 2, 3]],
-     (3, 11)),
-    ([0, -4, 3, 1, 4], [3, 1, 3, 1, 4], [[1, 5, 0, -4, 3], [-1, -4, 2, -2, 2], [4, 1, 2, -1, -1], [4, -2, -1, 3, 1]], None),
+    ([3, 0, -3, -4, -5], [1, 3, 2, 2, 9],
+     [[-2, -5, 0, -1, -5], [3, 0, 4, -5, 0], [-3, -3, -1, -2, -2], [-2, 4, -2, 2, 3]], (3, 11)),
+    ([0, -4, 3, 1, 4], [3, 1, 3, 1, 4], [[1, 5, 0, -4, 3], [-1, -4, 2, -2, 2], [4, 1, 2, -1, -1], [4, -2, -1, 3, 1]],
+     None),
     ([-1, 2, 1, -1, 2, 0], [5, 1, 2, 1, 1, 7], [[2, -1, -1, -1, 2, 1], [-1, 0, 1, 2, 0, 2], [0, 1, 0, -2, 0, 1]], None),
 )
 
@@ -113,7 +114,8 @@ class Tasks(Case):
             self.refuses(BadTask("unit"), Task, [1, 2], thing, None)
 
     def test_5_7_rows(self):
-        for thing in STRANGE[:-4] + ({}, -1, [1, 1], [[1, 1], [1]], [[1, 1], [1, 1, 1]], [[1, True]], [[1, None]], [None],
+        for thing in STRANGE[:-4] + ({}, -1, [1, 1], [[1, 1], [1]], [[1, 1], [1, 1, 1]], [[1, True]], [[1, None]],
+                                     [None],
                                      ["11"], [[1, 1.0]], [[1, 1]] * 17, ([1, 1], {0: 1, 1: 1})):
             self.refuses(BadTask("rows"), Task, [1, 2], [1, 1], thing)
             self.refuses(BadTask("rows"), Task, [1, 2], [0, 1], thing)
@@ -128,7 +130,8 @@ class Tasks(Case):
     def test_5_7_equal(self):
         self.assertEqual(Task([1, 2], [1, 1], [[1, 1]]), Task((1, 2), (1, 1), ((1, 1),)))
         task = Task([1, 2], [1, 1], [[1, 1]])
-        self.differs(task, Task([2, 1], [1, 1], [[1, 1]]), Task([1, 2], [1, 2], [[1, 1]]), Task([1, 2], [1, 1], [[1, 2]]),
+        self.differs(task, Task([2, 1], [1, 1], [[1, 1]]), Task([1, 2], [1, 2], [[1, 1]]),
+                     Task([1, 2], [1, 1], [[1, 2]]),
                      Task([1, 2], [1, 1], []), Task([1, 2], [1, 1], [[1, 1]] * 2), ((1, 2), (1, 1), ((1, 1),)), None)
 
     def test_0_5_lists_are_not_kept(self):
@@ -186,7 +189,8 @@ class Solving(Case):
         self.assertLess(20, min(kinds.values()))
 
     def test_5_8_tasks_of_one_place(self):
-        self.assertEqual(vars(self.solved(Task([7], [3], []))), {"value": (7, 3), "point": ((1, 3),), "multipliers": ()})
+        self.assertEqual(vars(self.solved(Task([7], [3], []))), {"value": (7, 3), "point": ((1, 3),),
+                                                                 "multipliers": ()})
         self.assertEqual(self.solved(Task([-7], [3], [[0], [-1]])).value, (-7, 3))
         self.assertIsInstance(self.solved(Task([-7], [3], [[0], [1]])), Barred)
         self.assertIsInstance(self.solved(Task([0], [0], [])), Barred)

@@ -189,8 +189,10 @@ class Judging(Case):
 
     def test_5_15_no_weights(self):
         book, bounds = Book(ONE, [Saying(3, 0)]), [(1, 2)]
-        for multipliers, word in ((((1, 1), (0, 1)), None), (((5, 1), (1, 3)), None), ((), "count"), (((-1, 1),), "count"),
-                                  (((1, 1), (0, 1), (0, 1)), "count"), (((1, 1), (-1, 9)), "sign"), (((-1, 1), (1, 9)), "sign"),
+        for multipliers, word in ((((1, 1), (0, 1)), None), (((5, 1), (1, 3)), None), ((), "count"),
+                                  (((-1, 1),), "count"),
+                                  (((1, 1), (0, 1), (0, 1)), "count"), (((1, 1), (-1, 9)), "sign"),
+                                  (((-1, 1), (1, 9)), "sign"),
                                   (((99, 100), (0, 1)), "bar"), (((0, 1), (9, 1)), "bar")):
             answer = NoWeights(multipliers)
             self.assertEqual(share_fault(book, bounds, Saying(1, 1), (0, 1), answer), word)

@@ -29,7 +29,8 @@ class Steps(Case):
         for layers, step, numbers in (
                 ((0, 0), 5, (1, 1)), ((0, 1), 5, (5, 1)), ((3, 0, 7, 3), 10, (10, 100, 1, 10)),
                 ((None, 2), 5, (0, 1)), ((4, None, 2, None), 3, (1, 0, 3, 0)), ((0, 2, 1, 1), 1, (1, 1, 1, 1)),
-                ((0, 10 ** 30), 10 ** 299, (10 ** 299, 1)), (tuple(range(16)), 2, tuple(2 ** k for k in range(15, -1, -1)))):
+                ((0, 10 ** 30), 10 ** 299, (10 ** 299, 1)), (tuple(range(16)), 2,
+                                                             tuple(2 ** k for k in range(15, -1, -1)))):
             for given in (layers, list(layers)):
                 weights = big_steps(given, step)
                 self.assertIsInstance(weights, Weights)

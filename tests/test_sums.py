@@ -107,8 +107,10 @@ class Sums(Case):
         self.assertRaises(TypeError, sum_bound, B, Saying(3, 1), 2)
 
     def test_5_16_judging_bounded(self):
-        for lot, word in (((0,), "sharp"), ((1,), "sharp"), ((), "sharp"), ((0, 1), None), ((1, 0), "lot"), ((0, 0), "lot"),
-                          ((0, 1, 1), "lot"), ((0, 2), "lot"), ((-1, 0), "lot"), ((True,), "lot"), ((None,), "lot"), ((2,), "lot")):
+        for lot, word in (((0,), "sharp"), ((1,), "sharp"), ((), "sharp"), ((0, 1), None), ((1, 0), "lot"),
+                          ((0, 0), "lot"),
+                          ((0, 1, 1), "lot"), ((0, 2), "lot"), ((-1, 0), "lot"), ((True,), "lot"), ((None,), "lot"),
+                          ((2,), "lot")):
             self.assertEqual(sum_fault(B, Saying(15, 12), Bounded(lot)), word)
             self.assertEqual(plain_word(B, Saying(15, 12), Bounded(lot)), word)
         # The lot (0,) is sharp, and with saying 1, which confirms day 3, it is not.

@@ -28,7 +28,8 @@ class Making(Case):
 
     def test_5_1_total_and_full(self):
         for numbers, total, full in (([0, 1], 1, False), ([2, 1], 3, True), ([1, 0, 0, 5], 6, False),
-                                     ([1] * 16, 16, True), ([1] * 15 + [0], 15, False), ([GREAT, GREAT], 2 * GREAT, True)):
+                                     ([1] * 16, 16, True), ([1] * 15 + [0], 15, False),
+                                     ([GREAT, GREAT], 2 * GREAT, True)):
             self.assertEqual(Weights(numbers).total, total)
             self.assertIs(Weights(numbers).is_full, full)
 

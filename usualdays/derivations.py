@@ -1,6 +1,5 @@
 """Derivations: showing step by step that a book yields a saying."""
 
-from usualdays.checks import check_all_usual
 from usualdays.daysets import within
 from usualdays.lots import sharp_lot
 from usualdays.ratios import is_whole
@@ -97,8 +96,7 @@ def rests_on(step, lots):
 
 
 def derivation(book, saying):
-    """Return a right derivation of a saying, or None if the book does not yield it."""
-    check_all_usual(book, saying)
+    """Return a right derivation of a saying, or None if the book does not yield it; sharp_lot raises the errors."""
     lot = sharp_lot(book, saying)
     if lot is None:
         return None

@@ -28,9 +28,10 @@ class Exceeds:
 def sum_bound(book, saying, *, parts=2):
     """Return Bounded with a sharp lot, or Exceeds with weights.
 
-    Where there is no sharp lot, the wrong days of each round weigh far more than those of the next
-    one, and a day that breaks the saying and nothing that is left weighs least. So each saying that
-    was dropped has hardly a doubt, those that are left have none, and nothing confirms the saying.
+    The wrong days of a round confirm the sayings that are dropped in it, and break none that are left.
+    So weights that fall by a great step from round to round leave hardly a doubt of what was dropped.
+    The open days, which break the saying and none that are left at the end, weigh least, and all
+    others nothing; so no day confirms the saying.
     """
     check_all_usual(book, saying)
     if not is_whole(parts, 1, HIGHEST_BOTTOM):
