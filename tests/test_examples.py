@@ -1,4 +1,4 @@
-"""The examples at the ends of the parts 1 to 7."""
+"""The examples at the ends of the parts."""
 
 from tests.helpers import Case
 from usualdays.books import Book
@@ -8,22 +8,29 @@ from usualdays.cores import core, fronts
 from usualdays.counting import counting_order, counts_of, grades_of
 from usualdays.derivations import Step, derivation_fault
 from usualdays.errors import BadRow, BadSentence
+from usualdays.exchange import exchange_layers
 from usualdays.expecting import expects, least_order
 from usualdays.greatest import greatest_doubt, lot_of
 from usualdays.history import History
 from usualdays.learning import learn
+from usualdays.leastbooks import carriers, least_books
 from usualdays.lifting import lift, lifted_layers
 from usualdays.lots import sharp_lots, silent_lots, telling_lots, widest_lot
 from usualdays.margins import margin, order_apart, relation
 from usualdays.marks import Marks
 from usualdays.news import stack
 from usualdays.orders import Order, layer_lines
+from usualdays.parting import parting_of
+from usualdays.pins import Unpinned, ladder, pin, pinned
 from usualdays.reader import read_sentence
 from usualdays.sayings import Saying
 from usualdays.sentences import Mark, names_in
 from usualdays.tables import Table, settle
+from usualdays.thin import needed, thin
 from usualdays.told import standing, tell
+from usualdays.trim import trim
 from usualdays.verdicts import Verdicts, joined, sharper
+from usualdays.watchers import Watchers
 from usualdays.weighing import weigh, weigh_fault
 
 M = Marks(("a", "b"))
@@ -99,3 +106,28 @@ class Examples(Case):
         self.assertIsNone(weigh_fault(K, (0, 0), Saying(6, 2), weigh(K, (0, 0), Saying(6, 2))))
         self.assertEqual(learn(K).forces, (1, 1))
         self.assertEqual([(p.saying.then, p.force) for p in stack(Order((3, 1, 3, 0)))], [(8, 1), (10, 2)])
+
+    def test_part_8(self):
+        book = Book(M, [Saying(10, 12), Saying(15, 10), Saying(15, 12)])
+        self.assertEqual([(x.low, x.high) for x in book], [(8, 2), (10, 5), (12, 3)])
+        self.assertEqual((needed(book), thin(book).kept), ((1,), (0, 1)))
+        self.assertEqual((least_books(book), carriers(book)), (((0, 1), (1, 2)), ((0, 1), (1, 2))))
+        least = lift(book).order
+        self.assertEqual(least.layers, (1, 1, 1, 0))
+        found = trim(book)
+        self.assertEqual(([(x.low, x.high) for x in found.book], found.numbers), ([(8, 4), (8, 3)], (1, 2)))
+        self.assertIsInstance(pinned(book), Unpinned)
+        self.assertTrue(Order((1, 2, 1, 0)).keeps_all(book))
+        self.assertEqual([(x.low, x.high) for x in ladder(M, least)], [(8, 7)])
+        self.assertEqual([(x.low, x.high, x.step) for x in pin(M, least)],
+                         [(8, 7, 1), (1, 2, 0), (2, 4, 0), (4, 1, 0)])
+
+    def test_part_9(self):
+        U = Watchers(Book(Marks(("a", "b")), (Saying(10, 12),)), Book(Marks(("a", "c")), (Saying(15, 5),)))
+        self.assertEqual(U.shared, ("a",))
+        self.assertEqual(exchange_layers(U).reports, ((0, 0), (0, 1), (0, 1)))
+        self.assertEqual(exchange_layers(U).order, Order((0, 2, 0, 1, 0, 2, 0, 1)))
+        V = Watchers(Book(Marks(("a",)), (Saying(3, 2),)), Book(Marks(("a",)), (Saying(3, 1),)))
+        self.assertEqual(exchange_layers(V).reports, ((1, 0), (1, 2)))
+        self.assertIsNone(parting_of(V, "first", Saying(3, 2)))
+        self.assertIsNotNone(parting_of(V, "lower", Saying(3, 2)))

@@ -43,6 +43,16 @@ FUNCTIONS = {
     "weighing": "weigh(book, grades, saying); weigh_fault(book, grades, saying, answer)",
     "learning": "learn(book)",
     "compare": "compare_books(one, two); compare_fault(one, two, compared)",
+    "thin": "needed(book); thin(book); thin_fault(book, thinned)",
+    "leastbooks": "least_books(book); carriers(book)",
+    "trim": "trim(book); trim_fault(book, trimmed)",
+    "pins": "ladder(marks, order); pin(marks, order); pinned(book)",
+    "looks": "look_day(marks, day, names); look_of(marks, layers, names); spread_over(marks, layers, names);"
+             " widened_days(marks, day_set, more); widened_book(book, more)",
+    "watchers": "standing_of(watchers, saying)",
+    "exchange": "meet(watchers); exchange_layers(watchers); join_orders(watchers, one, other)",
+    "merges": "merge_orders(way, first, second)",
+    "parting": "parting_of(watchers, way, saying); parting_fault(watchers, way, saying, result)",
 }
 
 SENTENCE = " true_days(self, marks); text(self); __eq__(self, other)"
@@ -99,6 +109,16 @@ CLASSES = {
     "weighing.NotForAll": "__init__(self, forces)",
     "learning.Learned": "__init__(self, forces)",
     "compare.Compared": "__init__(self, first, second); verdict(self)",
+    "thin.Thinned": "__init__(self, kept, orders, dropped, stucks)",
+    "trim.Trimmed": "__init__(self, book, numbers)",
+    "pins.Pinned": "__init__(self, order, stucks)",
+    "pins.Unpinned": "__init__(self, order, other)",
+    "watchers.Watchers": "__init__(self, one, other); owner(self, number)",
+    "exchange.Stranded": "__init__(self, who, stuck)",
+    "exchange.Met": "__init__(self, one, other, order)",
+    "exchange.Clash": "__init__(self, stuck)",
+    "exchange.Exchange": "__init__(self, reports, one, other, order)",
+    "parting.Parting": "__init__(self, one, other)",
 }
 DECORATED = {"of_days": "classmethod", "none": "classmethod", "flat": "staticmethod", "lowered": "staticmethod",
              "first_need_not": "property", "levels": "property", "grounds": "property", "even": "classmethod",
@@ -154,12 +174,15 @@ class Interface(Case):
         from usualdays.sayings import Saying
         from usualdays.tables import Table
         from usualdays.verdicts import Verdicts
+        from usualdays.watchers import Watchers
         from usualdays.weights import Weights
         marks = Marks(["a"])
         for made, names in ((marks, "names count days all_days"), (Verdicts(1, 2), "confirm broken"),
                             (Saying(3, 1), "where then usual confirm broken low high step"),
                             (Book(marks, []), "marks sayings"), (Order([0, 1]), "layers"),
                             (Weights([0, 1]), "numbers"), (Task([1], [1], []), "goal unit rows"),
-                            (Table([0, 1, 2, 3]), "normals days"), (Piece(Saying(3, 1), 1), "saying force")):
+                            (Table([0, 1, 2, 3]), "normals days"), (Piece(Saying(3, 1), 1), "saying force"),
+                            (Watchers(Book(marks, []), Book(marks, [])),
+                             "one other marks shared wide_one wide_other together")):
             for name in names.split():
                 self.assertIn(name, vars(made))

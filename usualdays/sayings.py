@@ -23,6 +23,11 @@ def verdict_on(confirm, broken, day):
     return "silent"
 
 
+def saying_with(low, high, usual):
+    """Return the saying of a kind with these low and these high days."""
+    return Saying.of_days(low, high) if usual else Saying.of_days(high, low, False)
+
+
 class Saying:
     """A saying by its day sets; an order keeps it if each high day lies step above the least low day."""
 

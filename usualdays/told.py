@@ -32,6 +32,11 @@ def tells(book, saying):
     return isinstance(tell(book, saying), Told)
 
 
+def tells_all(book, sayings):
+    """Tell whether a book tells all of some sayings."""
+    return all([tells(book, saying) for saying in sayings])
+
+
 def tell_fault(book, saying, answer):
     """Return None if an answer of tell is right, otherwise a word."""
     check_days(book.marks, [saying])
