@@ -1,6 +1,7 @@
 """The examples at the ends of the parts."""
 
 from tests.helpers import Case
+from usualdays.bench import Bench
 from usualdays.books import Book
 from usualdays.booktext import read_book, read_saying
 from usualdays.choices import choice_sayings
@@ -25,6 +26,9 @@ from usualdays.pins import Unpinned, ladder, pin, pinned
 from usualdays.reader import read_sentence
 from usualdays.sayings import Saying
 from usualdays.sentences import Mark, names_in
+from usualdays.shelves import serving_lots
+from usualdays.steady import cheapest, steady, steady_fault
+from usualdays.strife import strife
 from usualdays.tables import Table, settle
 from usualdays.thin import needed, thin
 from usualdays.told import standing, tell
@@ -131,3 +135,21 @@ class Examples(Case):
         self.assertEqual(exchange_layers(V).reports, ((1, 0), (1, 2)))
         self.assertIsNone(parting_of(V, "first", Saying(3, 2)))
         self.assertIsNotNone(parting_of(V, "lower", Saying(3, 2)))
+
+    def test_part_10(self):
+        Q = Book(M, [Saying(10, 8), Saying(10, 2), Saying(12, 4)])
+        told = strife(Q)
+        self.assertEqual([len(told.quarrels), told.quarrels[0][0], told.withdrawals[0][0], told.withdrawals[1][0]],
+                         [1, (0, 1), (0,), (1,)])
+        self.assertEqual([told.withdrawals[0][1].layers, told.withdrawals[1][1].layers], [(0, 0, 0, 1), (0, 2, 0, 1)])
+        loose = steady(Q, Saying(6, 4))
+        self.assertEqual([loose.lot, loose.order.layers, steady_fault(Q, Saying(6, 4), loose)],
+                         [(0,), (0, 0, 0, 1), None])
+        cheap = cheapest(Q, [3, 1, 5])
+        self.assertEqual([cheap.cost, cheap.lots], [1, ((1,),)])
+        shelf = [Saying(9, 1), Saying(5, 1), Saying(12, 4)]
+        self.assertEqual(list(serving_lots(Book(M, []), shelf, [Saying(12, 4)], [])),
+                         [(0,), (2,), (0, 2), (1, 2), (0, 1, 2)])
+        bench = Bench(Q)
+        self.assertEqual([bench.put(Saying(6, 4)), bench.quarrel_lots(), bench.mend(1), len(bench)],
+                         [3, ((0, 1),), (1,), 3])

@@ -53,6 +53,17 @@ FUNCTIONS = {
     "exchange": "meet(watchers); exchange_layers(watchers); join_orders(watchers, one, other)",
     "merges": "merge_orders(way, first, second)",
     "parting": "parting_of(watchers, way, saying); parting_fault(watchers, way, saying, result)",
+    "added": "added_saying(watchers)",
+    "meeting": "least_meeting(lots)",
+    "strife": "strife(book, *further); strife_fault(book, answer, *further)",
+    "steady": "kept_lot(book, order); is_full(book, order); filled(book, order); steady(book, saying);"
+              " steady_fault(book, saying, answer); cheapest(book, costs)",
+    "shelves": "failing(book, shelf, lot, wishes, bars, *, for_all=False);"
+               " serving_lots(book, shelf, wishes, bars, *, for_all=False);"
+               " servings(book, shelf, wishes, bars, *, for_all=False)",
+    "reach": "reachable(book, wishes, bars, *, for_all=False)",
+    "bench": "on_trial(bench, task); promised(bench, sayings)",
+    "benchtext": "bench_text(bench); read_bench(text)",
 }
 
 SENTENCE = " true_days(self, marks); text(self); __eq__(self, other)"
@@ -119,11 +130,25 @@ CLASSES = {
     "exchange.Clash": "__init__(self, stuck)",
     "exchange.Exchange": "__init__(self, reports, one, other, order)",
     "parting.Parting": "__init__(self, one, other)",
+    "talk.Talk": "__init__(self, watchers); pass_on(self, number); call_back(self, number); known_to(self, who);"
+                 " book_of(self, who); order_of(self, who); passed(self); settled(self)",
+    "strife.Strife": "__init__(self, quarrels, withdrawals)",
+    "steady.Steady": "__init__(self, stucks)",
+    "steady.Unsteady": "__init__(self, lot, order)",
+    "steady.Cheapest": "__init__(self, cost, lots)",
+    "shelves.Failure": "__init__(self, what, index, paper)",
+    "shelves.Serving": "__init__(self, lot, failures)",
+    "reach.Reachable": "__init__(self, orders)",
+    "reach.Unreachable": "__init__(self, index, stuck)",
+    "bench.Bench": "__init__(self, book); now(self); deeds(self); put(self, saying); take(self, number);"
+                   " mend(self, index); undo(self); redo(self); quarrel_lots(self); withdrawal_lots(self);"
+                   " trial(self); __len__(self); __iter__(self)",
 }
 DECORATED = {"of_days": "classmethod", "none": "classmethod", "flat": "staticmethod", "lowered": "staticmethod",
              "first_need_not": "property", "levels": "property", "grounds": "property", "even": "classmethod",
              "total": "property", "is_full": "property", "of_order": "staticmethod", "now": "property",
-             "lying": "property", "deeds": "property", "verdict": "property"}
+             "lying": "property", "deeds": "property", "verdict": "property", "passed": "property",
+             "settled": "property"}
 
 
 def tree_of(module):
@@ -166,6 +191,7 @@ class Interface(Case):
                 self.assertNotIn(operator, vars(kind))
 
     def test_attributes_are_set_when_an_object_is_created(self):
+        from usualdays.bench import Bench
         from usualdays.books import Book
         from usualdays.linear import Task
         from usualdays.marks import Marks
@@ -173,6 +199,7 @@ class Interface(Case):
         from usualdays.orders import Order
         from usualdays.sayings import Saying
         from usualdays.tables import Table
+        from usualdays.talk import Talk
         from usualdays.verdicts import Verdicts
         from usualdays.watchers import Watchers
         from usualdays.weights import Weights
@@ -183,6 +210,8 @@ class Interface(Case):
                             (Weights([0, 1]), "numbers"), (Task([1], [1], []), "goal unit rows"),
                             (Table([0, 1, 2, 3]), "normals days"), (Piece(Saying(3, 1), 1), "saying force"),
                             (Watchers(Book(marks, []), Book(marks, [])),
-                             "one other marks shared wide_one wide_other together")):
+                             "one other marks shared wide_one wide_other together"),
+                            (Talk(Watchers(Book(marks, []), Book(marks, []))), "watchers"),
+                            (Bench(Book(marks, [])), "first")):
             for name in names.split():
                 self.assertIn(name, vars(made))

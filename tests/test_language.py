@@ -14,13 +14,14 @@ isinstance ord repr any all divmod iter ValueError NotImplemented""".split())
 METHODS = set("""append clear copy count endswith extend find get index insert isalnum isalpha isdigit islower isspace
 isupper items join keys ljust lower lstrip partition pop remove replace reverse rfind rjust rpartition rsplit rstrip
 setdefault split splitlines startswith strip update upper values zfill bit_length""".split())
-DUNDERS = set("""__init__ __eq__ __len__ __iter__ __call__ __getitem__ __add__ __mul__ __and__ __or__ __invert__""".split())
+DUNDERS = set("""__init__ __eq__ __len__ __iter__ __call__ __getitem__ __add__ __mul__ __and__ __or__ __invert__
+__enter__ __exit__""".split())
 DECORATORS = {"property", "classmethod", "staticmethod"}
 NODES = """Module Expr Constant ImportFrom alias FunctionDef ClassDef arguments arg Assign AugAssign If While For Return
 Break Continue Pass Raise Try ExceptHandler Call Attribute Subscript Slice Name Load Store Tuple List Dict ListComp
 SetComp DictComp comprehension BinOp UnaryOp BoolOp Compare IfExp JoinedStr FormattedValue Starred keyword Yield
 Add Sub Mult FloorDiv Mod Pow LShift RShift BitAnd BitOr BitXor Not Invert USub And Or Eq NotEq Lt LtE Gt GtE Is IsNot
-In NotIn""".split()
+In NotIn With withitem""".split()
 BANNED = r"\b(type|typing|enum|Generic|Protocol|ABC|namedtuple)\b"
 BARRED = set("""register mro elements open input law version_info with_traceback add_note""".split())
 

@@ -150,8 +150,8 @@ class Pins(Case):
             self.assertEqual(other.keeps_all(book), other.closed() == order.closed())
 
     def test_8_11_examples_and_errors(self):
-        self.assertEqual(list(pin(TWO, Order((1, 1, 1, 0)))), [Saying(15, 8), Saying.of_days(2, 1, False),
-                                                               Saying.of_days(4, 2, False), Saying.of_days(1, 4, False)])
+        self.assertEqual(list(pin(TWO, Order((1, 1, 1, 0)))), [
+            Saying(15, 8), Saying.of_days(2, 1, False), Saying.of_days(4, 2, False), Saying.of_days(1, 4, False)])
         self.assertEqual(list(pin(TWO, Order((0, 5, 5, 0)))), [
             Saying(15, 9), Saying.of_days(8, 1, False), Saying.of_days(1, 8, False), Saying.of_days(4, 2, False),
             Saying.of_days(2, 4, False)])

@@ -64,7 +64,8 @@ class TwoWatchers(Case):
         self.refuses(BadWatchers("marks"), Watchers, four, fifth)
         self.refuses(BadWatchers("marks"), Watchers, fifth, four)
         self.refuses(BadWatchers("marks"), Watchers, Book(THREE, []), Book(Marks(("x", "a", "y")), []))
-        self.refuses(BadWatchers("marks"), Watchers, Book(FOUR, [Saying(1, 1)] * 12), Book(Marks(("e",)), [Saying(1, 1)]))
+        self.refuses(BadWatchers("marks"), Watchers, Book(FOUR, [Saying(1, 1)] * 12),
+                     Book(Marks(("e",)), [Saying(1, 1)]))
         self.refuses(BadWatchers("many"), Watchers, book, six)
         self.refuses(BadWatchers("many"), Watchers, six, book)
         self.refuses(BadWatchers("many"), Watchers, Book(FOUR, [Saying(1, 1)]), Book(FOUR, [Saying(1, 1)] * 12))

@@ -25,10 +25,10 @@ def trim(book):
         days_were_dropped = fewer_lows != lows or fewer_highs != highs
         lows = fewer_lows
         highs = fewer_highs
-    return Trimmed(book_of(book, lows, highs), tuple([number for number, high in enumerate(highs) if high]))
+    return Trimmed(book_with(book, lows, highs), tuple([number for number, high in enumerate(highs) if high]))
 
 
-def book_of(book, lows, highs):
+def book_with(book, lows, highs):
     """Return the book with these low and high days; a saying without high days drops out."""
     trios = zip(book.sayings, lows, highs)
     return Book(book.marks, [saying_with(low, high, saying.usual) for saying, low, high in trios if high])
@@ -61,7 +61,7 @@ def trimmed_highs(book, lows, highs):
         days = days_in(highs[number])
         for day in days:
             fewer = without_day(left, number, day)
-            rest = book_of(book, lows, fewer)
+            rest = book_with(book, lows, fewer)
             if tells(rest, saying_with(lows[number], 1 << day, book[number].usual)):
                 left = fewer
     return left
