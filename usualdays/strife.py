@@ -28,7 +28,13 @@ def strife(book, *further):
     check_strife(book, further)
     quarrels = quarrels_of(book, further)
     meeting = least_meeting([lot for lot, _ in quarrels])
-    return Strife(quarrels, tuple([(lot, lift(book.without(lot), *further).order) for lot in meeting]))
+    return Strife(quarrels, tuple([(lot, order_without(book, lot, further)) for lot in meeting]))
+
+
+def order_without(book, lot, further):
+    """Return the least order that keeps the further sayings and those of the book that are not in a lot."""
+    rest = book.without(lot)
+    return lift(rest, *further).order
 
 
 def quarrels_of(book, further):
@@ -39,7 +45,8 @@ def quarrels_of(book, further):
         lot_bits = set_of(lot)
         if any([within(smaller, lot_bits) for smaller in bits]):
             continue
-        found = lift(book.only(lot), *further)
+        part = book.only(lot)
+        found = lift(part, *further)
         if isinstance(found, Stuck):
             quarrels.append((lot, found))
             bits.append(lot_bits)
@@ -54,7 +61,8 @@ def strife_fault(book, answer, *further):
     if not are_sorted_lots(quarrel_lots, len(book)) or not are_sorted_lots(withdrawal_lots, len(book)):
         return "lots"
     for lot, stuck in answer.quarrels:
-        if stuck_fault(book.only(lot), stuck, *further) is not None:
+        part = book.only(lot)
+        if stuck_fault(part, stuck, *further) is not None:
             return "stuck"
     for lot, order in answer.withdrawals:
         if len(order) != book.marks.days or not order.keeps_all(book.without(lot).sayings + further):
