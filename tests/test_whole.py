@@ -6,13 +6,19 @@ from usualdays.bench import Bench, on_trial, promised
 from usualdays.benchtext import bench_text, read_bench
 from usualdays.books import Book
 from usualdays.booktext import book_text, read_book
+from usualdays.choices import lift_choices
 from usualdays.compare import compare_books
 from usualdays.cores import core, fronts
+from usualdays.counting import counting_order, grades_of
 from usualdays.derivations import derivation
 from usualdays.doubts import doubt_of, doubt_sum
 from usualdays.errors import NoOrder, NotPassed
 from usualdays.exchange import exchange_layers, join_orders, meet
 from usualdays.expecting import expects, least_order
+from usualdays.forces import forced_order
+from usualdays.greatest import GreatestDoubt, doubt_range, greatest_doubt
+from usualdays.history import History
+from usualdays.learning import learn
 from usualdays.leastbooks import carriers, least_books
 from usualdays.lifting import Lifted, Stuck, lift, lifted_layers
 from usualdays.looks import look_of, spread_over, widened_book
@@ -21,20 +27,25 @@ from usualdays.margins import margin, relation
 from usualdays.marks import Marks
 from usualdays.meeting import least_meeting
 from usualdays.merges import merge_orders
+from usualdays.news import Piece, order_of_news, stack
 from usualdays.orders import Order
 from usualdays.parting import parting_of
 from usualdays.pins import Pinned, ladder, pin, pinned
 from usualdays.reach import Reachable, reachable
 from usualdays.sayings import Saying
+from usualdays.shares import greatest_share
 from usualdays.shelves import failing, serving_lots, servings
 from usualdays.steady import Steady, cheapest, filled, is_full, kept_lot, steady
+from usualdays.steps import big_steps, order_by_weights
 from usualdays.strife import strife
 from usualdays.sums import Bounded, sum_bound
+from usualdays.tables import Table, settle
 from usualdays.talk import Talk
 from usualdays.thin import needed, thin
 from usualdays.told import standing, tell, tells
 from usualdays.trim import trim
 from usualdays.watchers import Watchers, standing_of
+from usualdays.weighing import weigh, weigh_fault
 from usualdays.weights import Weights
 
 
@@ -53,13 +64,19 @@ def questions(book, saying):
     both = Watchers(book.only(tuple(range(min(len(book), 6)))), Book(Marks(("a", "z")), [Saying(15, 3)]))
     usual = Book(book.marks, [own for own in book if own.usual])
     flat = Order.flat(book.marks.days)
-    bench = Bench(book)
+    bench, aim = Bench(book), Saying(saying.where, saying.then)
+    bounds, history = [(1, 20)] * len(usual), History(flat)
+    history.put(aim, 3)
     shelf = [saying, saying.flipped(), saying.contrary()]
     return [lambda: lift(book), lambda: lift(book, saying), lambda: lifted_layers(book, saying),
             lambda: tell(book, saying), lambda: standing(book, saying), lambda: telling_lots(book, saying),
             lambda: silent_lots(book, saying), lambda: core(book, saying.where),
             lambda: fronts(book, saying.where & 7 or 1), lambda: margin(book, 1, 2),
-            lambda: relation(book, saying.where, 1), lambda: derivation(usual, Saying(saying.where, saying.then)),
+            lambda: relation(book, saying.where, 1), lambda: derivation(usual, aim),
+            lambda: greatest_doubt(usual, bounds, aim), lambda: doubt_range(usual, bounds, aim),
+            lambda: greatest_share(usual, bounds, aim, (1, 2)), lambda: sum_bound(usual, aim), lambda: learn(usual),
+            lambda: weigh(usual, (1,) * len(usual), saying), lambda: history.now, lambda: history.lying,
+            lambda: order_of_news(flat, [Piece(aim, 2)]), lambda: lift_choices(book.marks, [(3, 1), (3, 3)]),
             lambda: compare_books(book, book.with_saying(saying)), lambda: needed(book), lambda: thin(book),
             lambda: least_books(book), lambda: carriers(book), lambda: trim(book), lambda: pinned(book),
             lambda: widened_book(book, both.marks if both.marks.count > 1 else TWO), lambda: both.together,
@@ -146,6 +163,30 @@ class Agreeing(Case):
                     self.assertEqual(standing(other, saying), standing(book, saying))
                 for lot in carriers(book):
                     self.assertEqual(plain(lift(book.only(lot)))[0], plain(lift(other))[0])
+
+    def test_0_3_the_least_order_in_several_ways(self):
+        chance = seeded(38)
+        for _ in range(60):
+            marks = chance.choice((ONE, TWO, THREE))
+            book, saying = some_kept_book(chance, marks, 4, True), some_saying(chance, marks, True)
+            order = least_order(book)
+            table = Table.of_order(order)
+            self.assertEqual(settle(table).order, order)
+            choices = [(many, table.normals[many]) for many in range(1, 2 ** marks.days)]
+            self.assertEqual(lift_choices(marks, choices).order, order)
+            self.assertEqual(order_by_weights(big_steps(order, 3)), order)
+            self.assertEqual(order_of_news(Order.flat(marks.days), stack(order)), order)
+            forces = learn(book).forces
+            self.assertEqual(weigh_fault(book, grades_of(book), saying, weigh(book, grades_of(book), saying)), None)
+            for other in (forced_order(book, forces), counting_order(book)):
+                self.assertTrue(other.keeps_all(book))
+                if expects(book, saying):
+                    self.assertTrue(other.keeps(saying))
+            # Whose doubts are all small under some weights is kept by their order; who is yielded is hardly doubtful.
+            found = greatest_doubt(book, [(1, 20)] * len(book), saying)
+            if isinstance(found, GreatestDoubt):
+                top, bottom = found.doubt
+                self.assertEqual(top * 20 <= len(book) * bottom, sharp_lot(book, saying) is not None)
 
     def test_0_3_two_watchers(self):
         chance = seeded(33)
